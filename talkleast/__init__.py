@@ -1,0 +1,1 @@
+"""Finding an entry when each side knows half of where it is."""
