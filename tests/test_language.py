@@ -1,4 +1,4 @@
-"""Holds the package's files to those rules of LANGUAGE.md that a look at the source can tell."""
+"""Holds the package's files to some rules of LANGUAGE.md; README.md says which are left to the eye."""
 
 import ast
 import builtins
