@@ -1,7 +1,7 @@
 """Tables of words, sets of cards, and the kinds of rows and columns."""
 
 from talkleast.checks import is_int
-from talkleast.errors import NoCard, NoTable
+from talkleast.errors import NoCard, NoTable, TooGreat
 
 MOST_LINES = 8
 GREATEST_WORD = 9
@@ -39,6 +39,11 @@ def check_cards(cards, size):
         raise NoCard("a set of cards is an int from 1 on with cards of the table alone")
 
 
+def check_card(card, size):
+    if not is_int(card, 0, size - 1):
+        raise NoCard("a card is an int from 0 on, less than the number of its side's cards")
+
+
 def cards_in(cards):
     return [card for card in range(cards.bit_length()) if (cards >> card) & 1]
 
@@ -64,5 +69,13 @@ def is_small(table):
     return len(rest) <= SMALL_LINES and len(rest[0]) <= SMALL_LINES
 
 
+def check_small(table):
+    if not is_small(table):
+        raise TooGreat("the table has more than five kinds of rows or of columns")
+
+
 def words_in(table):
-    return [word for word in range(GREATEST_WORD + 1) if any([word in row for row in table])]
+    words = []
+    for row in table:
+        words.extend(row)
+    return sorted(set(words))
