@@ -1,5 +1,8 @@
 """What several test files need."""
 
+from talkleast.named import alike, less, pick, shared, sums
+from talkleast.tables import flipped
+
 # Things that are no int, whatever int is asked for; True would do as 1.
 NO_INTS = (True, False, None, "", "1", [], [1], (1,), {}, {1: 1}, {1}, 1.0, 2.5, 1j, b"1", object(), int, len)
 
@@ -47,6 +50,32 @@ def greatest_small(words, count):
 def cards_of(cards):
     """The cards in a set, told without the package's help."""
     return [card for card in range(12) if cards // 2 ** card % 2]
+
+
+def entries_of(table, word):
+    return {(row, column) for row, words in enumerate(table) for column in range(len(words)) if words[column] == word}
+
+
+def within(block):
+    """The entries that a block contains."""
+    return {(row, column) for row in cards_of(block[0]) for column in cards_of(block[1])}
+
+
+def small_tables():
+    """Small tables of all sizes, the greatest among them."""
+    found = [alike(n) for n in range(1, 6)] + [less(5, 5), less(8, 5), shared(1), shared(2), pick(2), sums(8, 8, 5)]
+    found += [scrambled(rows, columns, words, seed) for rows in range(1, 6) for columns in range(1, 6)
+              for words in (2, 3) for seed in (3, 4)]
+    found += [grown(scrambled(3, 4, 2, seed), (0, 1, 1, 2, 0, 2, 1, 0), (3, 0, 0, 1, 2, 2, 1)) for seed in range(5)]
+    found += [grown(alike(5), (0, 1, 0, 2, 3, 1, 4, 4), (0, 0, 1, 2, 2, 3, 2, 4)), ((6,) * 8,) * 8]
+    return found + greatest_small(2, 10) + greatest_small(4, 5) + greatest_small(10, 2)
+
+
+def great_tables():
+    """Tables with six kinds of rows or of columns, or with more."""
+    six = of_kinds(6, 5, 3, 1)[0]
+    return (six, flipped(six), alike(6), alike(8), pick(3), shared(3), ((0, 1, 2, 3, 4, 5),), six + six[4:],
+            grown(six, range(6), (0, 1, 2, 3, 4, 4, 0, 0)), flipped(six + six[:2]), of_kinds(8, 8, 2, 1)[0])
 
 
 def chain(asks, side="row", yes=True):

@@ -8,7 +8,7 @@ from talkleast.parts import bits_paper, ends_paper
 from talkleast.plans import bits_of, made_plan, outcomes_of
 from talkleast.runs import settles
 from talkleast.tables import flipped
-from tests.helper import greatest_small, grown, of_kinds, scrambled
+from tests.helper import great_tables, greatest_small, grown, scrambled
 
 
 def tables():
@@ -136,9 +136,7 @@ class Plans(unittest.TestCase):
 
 class Great(unittest.TestCase):
     def test_too_great(self):
-        six = of_kinds(6, 5, 3, 1)[0]
-        for table in (six, flipped(six), alike(6), alike(8), pick(3), shared(3), ((0, 1, 2, 3, 4, 5),), six + six[4:],
-                      grown(six, range(6), (0, 1, 2, 3, 4, 4, 0, 0)), flipped(six + six[:2])):
+        for table in great_tables():
             for function in (least_bits, fewest_ends, least_plan, fewest_plan):
                 with self.subTest(function=function.__name__, table=table):
                     self.assertRaises(TooGreat, function, table)

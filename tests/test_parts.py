@@ -4,7 +4,7 @@ from talkleast.errors import TooGreat
 from talkleast.named import alike, less, pick, shared, sums
 from talkleast.parts import bits_paper, ends_paper
 from talkleast.tables import flipped
-from tests.helper import cards_of, greatest_small, grown, of_kinds, scrambled
+from tests.helper import cards_of, great_tables, greatest_small, grown, of_kinds, scrambled
 
 # Reckoned by hand.
 CROSS = ((0, 1), (1, 0))
@@ -130,10 +130,7 @@ class Papers(unittest.TestCase):
                 self.assert_papers(table, reckoned_bits(rest), reckoned_ends(rest))
 
     def test_too_great(self):
-        six = of_kinds(6, 5, 3, 1)[0]
-        for table in (six, flipped(six), of_kinds(6, 6, 2, 1)[0], of_kinds(8, 8, 2, 1)[0], alike(6), pick(3), shared(3),
-                      ((0, 1, 2, 3, 4, 5),), ((0,), (1,), (2,), (3,), (4,), (5,)), six + six[:2],
-                      grown(six, range(6), (0, 1, 2, 3, 4, 4, 4, 4))):
+        for table in great_tables():
             with self.subTest(table=table):
                 self.assertRaises(TooGreat, bits_paper, table)
                 self.assertRaises(TooGreat, ends_paper, table)
