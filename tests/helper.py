@@ -1,5 +1,7 @@
 """What several test files need."""
 
+import itertools
+
 from talkleast.named import alike, less, pick, shared, sums
 from talkleast.tables import flipped
 
@@ -76,6 +78,39 @@ def great_tables():
     six = of_kinds(6, 5, 3, 1)[0]
     return (six, flipped(six), alike(6), alike(8), pick(3), shared(3), ((0, 1, 2, 3, 4, 5),), six + six[4:],
             grown(six, range(6), (0, 1, 2, 3, 4, 4, 0, 0)), flipped(six + six[:2]), of_kinds(8, 8, 2, 1)[0])
+
+
+def halves():
+    """All ways to cut the nine entries of a table of three rows and columns, as ints with a bit for each entry."""
+    rows = [sum(7 << 3 * row for row in some) for size in (1, 2) for some in itertools.combinations(range(3), size)]
+    columns = [sum(73 << column for column in some) for size in (1, 2) for some in itertools.combinations(range(3), size)]
+    return rows + columns
+
+
+def reached_by_bits(most):
+    """For each number of bits the tables, of three rows and columns and the words 0 and 1, that some plan settles."""
+    levels = [{0, 511}]
+    for bits in range(most):
+        found = set(levels[-1])
+        for half in halves():
+            for one in {table & half for table in levels[-1]}:
+                found.update(one | other for other in {table & ~half & 511 for table in levels[-1]})
+        levels.append(found)
+    return levels
+
+
+def table_of(number):
+    """The table of three rows and columns that is told by an int with a bit for each entry."""
+    return tuple(tuple(number >> 3 * row + column & 1 for column in range(3)) for row in range(3))
+
+
+def lists_split(cards):
+    """All pairs of lists, neither empty, that together have the cards."""
+    ways = []
+    for mask in range(1, 2 ** len(cards) - 1):
+        inside = [card for place, card in enumerate(cards) if mask >> place & 1]
+        ways.append((inside, [card for card in cards if card not in inside]))
+    return ways
 
 
 def chain(asks, side="row", yes=True):

@@ -1,4 +1,3 @@
-import itertools
 import unittest
 
 from talkleast.errors import TooGreat
@@ -8,7 +7,7 @@ from talkleast.parts import bits_paper, ends_paper
 from talkleast.plans import bits_of, made_plan, outcomes_of
 from talkleast.runs import settles
 from talkleast.tables import flipped
-from tests.helper import great_tables, greatest_small, grown, scrambled
+from tests.helper import great_tables, greatest_small, grown, halves, reached_by_bits, scrambled, table_of
 
 
 def tables():
@@ -27,25 +26,6 @@ def sets_in(plan):
     return [plan[1:3]] + sets_in(plan[3]) + sets_in(plan[4])
 
 
-def halves():
-    """All ways to cut the nine entries of a table of three rows and columns, as ints with a bit for each entry."""
-    rows = [sum(7 << 3 * row for row in some) for size in (1, 2) for some in itertools.combinations(range(3), size)]
-    columns = [sum(73 << column for column in some) for size in (1, 2) for some in itertools.combinations(range(3), size)]
-    return rows + columns
-
-
-def reached_by_bits(most):
-    """For each number of bits the tables, of three rows and columns and the words 0 and 1, that some plan settles."""
-    levels = [{0, 511}]
-    for bits in range(most):
-        found = set(levels[-1])
-        for half in halves():
-            for one in {table & half for table in levels[-1]}:
-                found.update(one | other for other in {table & ~half & 511 for table in levels[-1]})
-        levels.append(found)
-    return levels
-
-
 def reached_by_ends(most):
     levels = [set(), {0, 511}]
     for ends in range(2, most + 1):
@@ -56,10 +36,6 @@ def reached_by_ends(most):
                     found.update(one | other for other in {table & ~half & 511 for table in levels[ends - first]})
         levels.append(found)
     return levels
-
-
-def table_of(number):
-    return tuple(tuple(number >> 3 * row + column & 1 for column in range(3)) for row in range(3))
 
 
 class Least(unittest.TestCase):

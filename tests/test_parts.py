@@ -4,7 +4,7 @@ from talkleast.errors import TooGreat
 from talkleast.named import alike, less, pick, shared, sums
 from talkleast.parts import bits_paper, ends_paper
 from talkleast.tables import flipped
-from tests.helper import cards_of, great_tables, greatest_small, grown, of_kinds, scrambled
+from tests.helper import cards_of, great_tables, greatest_small, grown, lists_split, of_kinds, scrambled
 
 # Reckoned by hand.
 CROSS = ((0, 1), (1, 0))
@@ -24,15 +24,6 @@ STEPS_ENDS = [
     (2, 1, 1), (2, 2, 1), (2, 3, 1), (2, 4, 1), (2, 5, 2), (2, 6, 2), (2, 7, 2),
     (3, 1, 1), (3, 2, 2), (3, 3, 3), (3, 4, 2), (3, 5, 3), (3, 6, 4), (3, 7, 5),
 ]
-
-
-def lists_split(cards):
-    """All pairs of lists, neither empty, that together have the cards."""
-    ways = []
-    for mask in range(1, 2 ** len(cards) - 1):
-        inside = [card for place, card in enumerate(cards) if mask >> place & 1]
-        ways.append((inside, [card for card in cards if card not in inside]))
-    return ways
 
 
 def reckoned(table, ground, joined):

@@ -4,6 +4,7 @@ import unittest
 
 from talkleast.alone import alone_bits, codes
 from talkleast.apart import apart
+from talkleast.coins import worst_share
 from talkleast.covers import fewest_cover
 from talkleast.least import fewest_ends, fewest_plan, least_bits, least_plan
 from talkleast.plans import bits_of, flipped_plan, outcomes_of
@@ -11,7 +12,8 @@ from talkleast.ranks import rank
 from talkleast.runs import ends_of, settles
 from talkleast.tables import column_kinds, cut, flipped, row_kinds, words_in
 from talkleast.twos import rank_in_twos
-from tests.helper import grown, of_kinds, scrambled, small_tables
+from talkleast.weights import best_right, right_weight
+from tests.helper import chain, grown, of_kinds, scrambled, small_tables
 
 
 def plans_that_settle(table):
@@ -93,6 +95,58 @@ class Bounds(unittest.TestCase):
     def test_least_bits_are_at_most_both_codes(self):
         for table in small_tables():
             self.assertLessEqual(least_bits(table), alone_bits(table, "row") + alone_bits(table, "column"))
+
+
+class Weighed(unittest.TestCase):
+    def tables(self):
+        found = [table for table in small_tables() if len(table) <= 4 and len(table[0]) <= 4]
+        self.assertGreater(len(found), 30)
+        return found
+
+    def weights(self, table, seed):
+        """Some weights of all sorts, and the ones that are 1 throughout."""
+        return [[1 if seed == 0 else weight for weight in row] for row in scrambled(len(table), len(table[0]), 30, seed)]
+
+    def mixes(self, table, bits):
+        """Mixes of plans within the bits: best plans for several weights, ends, and plans that ask in vain."""
+        plans = [best_right(table, self.weights(table, seed), most)[1] for seed in range(4) for most in range(bits + 1)]
+        plans += [("end", word) for word in words_in(table)] + [chain(bits), chain(bits, "column", False)]
+        plans += [plan for plan in (least_plan(table), fewest_plan(table)) if bits_of(plan) <= bits]
+        self.assertLessEqual(max(bits_of(plan) for plan in plans), bits)
+        shares = [1 + 7 * number % 5 for number in range(len(plans))]
+        return [[(share, plan)] for share, plan in zip(shares, plans)] + \
+            [list(zip(shares, plans))[start:start + size] for start in (0, 2) for size in (2, 5, 20)]
+
+    def test_worst_share_times_all_weight_is_at_most_the_best(self):
+        for table in self.tables():
+            for bits in range(5):
+                best = [(self.weights(table, seed), best_right(table, self.weights(table, seed), bits)[0]) for seed in range(3)]
+                for mix in self.mixes(table, bits):
+                    top, bottom, row, column = worst_share(table, mix)
+                    for weights, weight in best:
+                        self.assertLessEqual(top * sum(map(sum, weights)), bottom * weight)
+
+    def test_least_bits_are_the_first_with_all_weight(self):
+        for table in self.tables():
+            ones = self.weights(table, 0)
+            everything = sum(map(sum, ones))
+            for bits in range(5):
+                self.assertEqual(best_right(table, ones, bits)[0] == everything, least_bits(table) <= bits)
+
+    def test_more_bits_never_weigh_less(self):
+        for table in self.tables():
+            weights = self.weights(table, 2)
+            found = [best_right(table, weights, bits)[0] for bits in range(5)]
+            self.assertEqual(found, sorted(found))
+
+    def test_sides_exchanged(self):
+        for table in self.tables():
+            weights = self.weights(table, 1)
+            turned = [list(column) for column in zip(*weights)]
+            for bits in range(4):
+                weight, plan = best_right(table, weights, bits)
+                self.assertEqual(best_right(flipped(table), turned, bits)[0], weight)
+                self.assertEqual(right_weight(flipped(table), turned, flipped_plan(plan)), weight)
 
 
 class Exchanged(unittest.TestCase):
